@@ -1,0 +1,45 @@
+"""The names, arguments and places that the interface lists."""
+
+import inspect
+import unittest
+
+from tokenlanes import boards, passing
+from tokenlanes.boards import Board
+
+FUNCTIONS = [
+    (boards, "is_setting", "(board, value)"),
+    (passing, "run_tokens", "(board, entries, *, start=None)"),
+    (passing, "numbers_of", "(board, entries, *, start=None)"),
+    (passing, "amounts_after", "(board, amounts, *, start=None)"),
+    (passing, "exit_of", "(board, lane, number, *, start=None)"),
+    (passing, "walk_exits", "(board, lane, *, start=None)"),
+]
+
+
+class Interface(unittest.TestCase):
+    def test_functions_are_defined_in_their_files(self):
+        for module, name, arguments in FUNCTIONS:
+            with self.subTest(name=name):
+                found = getattr(module, name)
+                self.assertEqual(found.__module__, module.__name__)
+                self.assertEqual(str(inspect.signature(found)), arguments)
+
+    def test_the_board_class(self):
+        self.assertEqual(Board.__module__, "tokenlanes.boards")
+        self.assertEqual(str(inspect.signature(Board)), "(lanes, gates)")
+        self.assertEqual(str(inspect.signature(Board.full)), "(power)")
+        self.assertEqual(str(inspect.signature(Board.read)), "(text)")
+        self.assertEqual(str(inspect.signature(Board.followed_by)), "(self, other)")
+
+    def test_members_of_the_board_class_stand_in_it(self):
+        for name, kind in [("lane_count", property), ("gate_list", property), ("depth", property),
+                           ("full", classmethod), ("read", classmethod)]:
+            with self.subTest(name=name):
+                self.assertIsInstance(vars(Board)[name], kind)
+        for name in ["followed_by", "__init__", "__len__", "__eq__"]:
+            with self.subTest(name=name):
+                self.assertTrue(inspect.isfunction(vars(Board)[name]))
+
+
+if __name__ == "__main__":
+    unittest.main()

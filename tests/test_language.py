@@ -1,0 +1,96 @@
+"""The files of the package keep to what a short script can see of LANGUAGE.md."""
+
+import pathlib
+import unittest
+
+from language_rules import complaints
+
+PACKAGE = pathlib.Path(__file__).resolve().parent.parent / "tokenlanes"
+
+WRONG = [
+    ("L2", "from os import path\n"),
+    ("L2", "from .boards import Board\n"),
+    ("L2", "from tokenlanes.boards import *\n"),
+    ("L2", "from tokenlanes.nowhere import Board\n"),
+    ("L2", "LIMIT = 3\n\nfrom math import gcd\n"),
+    ("L2", "from tokenlanes.boards import MAX\n"),
+    ("L16", "import math\n"),
+    ("L16", "from tokenlanes.sample import low\n\n\ndef low():\n    return 1\n"),
+    ("L3", "LIMIT = len('ab')\n"),
+    ("L3", "if True:\n    LIMIT = 3\n"),
+    ("L3", "LOW = HIGH = 3\n"),
+    ("L4", "def mark(f):\n    return f\n\n\n@mark\ndef low():\n    return 1\n"),
+    ("L5", "class Box:\n    def __hash__(self):\n        return 1\n"),
+    ("L5", "def mark(c):\n    return c\n\n\n@mark\nclass Box:\n    pass\n"),
+    ("L6", "async def low():\n    return 1\n"),
+    ("L7", "HALF = 0.5\n"),
+    ("L7", "def half(n):\n    return n / 2\n"),
+    ("L7", "def halves(xs):\n    return (x // 2 for x in xs)\n"),
+    ("L8", "def low(x):\n    return hash(x)\n"),
+    ("L8", "def low(x):\n    print(x)\n"),
+    ("L10", "def low():\n" + "    pass\n" * 40),
+    ("L10", "LIMIT = 3\n" * 400),
+    ("L10", "LIMIT = 3" + " " * 110 + "# ab\n"),
+    ("L12", "def low(__x):\n    return 1\n"),
+    ("L12", "def low():\n    caf\u00e9 = 1\n    return caf\u00e9\n"),
+    ("L14", "LIMIT = 3  # \u20ac\n"),
+    ("L14", "def low():\n\treturn 1\n"),
+    ("L15", "LIMIT = 3\nLIMIT = 4\n"),
+    ("L15", "def low(min):\n    return min\n"),
+    ("L15", "def low():\n    for list in [1]:\n        pass\n"),
+    ("L15", "def low():\n    class Box:\n        pass\n    return Box()\n"),
+    ("L17", "def low(box):\n    return box.elements\n"),
+    ("L17", "def low(x):\n    return eval(x)\n"),
+    ("L19", "def low():\n    try:\n        return 1\n    except:\n        return 2\n"),
+    ("L19", "def low():\n    try:\n        return 1\n    except Exception:\n        return 2\n"),
+    ("L19", "def low():\n    raise wrong\n"),
+    ("L20", "def low(x, y):\n    return x is y\n"),
+    ("L23", "def low():\n    yield 1\n\n\ndef high():\n    return low()\n"),
+    ("L24", "def low(xs):\n    return [x for x in set(xs)]\n"),
+    ("L25", "def low(x):\n    return x.isidentical()\n"),
+    ("L27", "def low(n):\n    return 2 ** (n + 1)\n"),
+    ("L27", "NAME = 'a%b'\n"),
+    ("L27", "NAME = 'a\\x41'\n"),
+    ("L28", "class Box:\n    def __eq__(self, other):\n        return True\n"),
+    ("L28", "class Box:\n    def __len__(self):\n        return self.n\n"),
+]
+
+
+class Package(unittest.TestCase):
+    def test_the_folder_contains_files_with_plain_names_only(self):
+        for path in PACKAGE.iterdir():
+            if path.name != "__pycache__":
+                self.assertTrue(path.is_file() and path.suffix == ".py", path.name)
+
+    def test_the_files_keep_to_the_rules(self):
+        files = {path.stem: path.read_bytes().decode("ascii") for path in sorted(PACKAGE.glob("*.py"))}
+        self.assertLess(3, len(files))
+        self.assertEqual(complaints(files), [])
+
+
+class Script(unittest.TestCase):
+    def test_it_sees_what_is_wrong(self):
+        for rule, text in WRONG:
+            with self.subTest(rule=rule, text=text):
+                found = complaints({"sample": text, "boards": "class Board:\n    pass\n"})
+                self.assertIn(rule, " ".join(found).split())
+
+    def test_it_sees_wrong_names_of_files(self):
+        for name in ["Boards", "test", "test_boards", "law_boards", "len", "a-b"]:
+            with self.subTest(name=name):
+                self.assertEqual(complaints({name: ""}), [f"{name}:1 L14 the file's name"])
+
+    def test_it_sees_files_that_import_from_each_other(self):
+        low = "from tokenlanes.high import HIGH\n\nLOW = 1\n"
+        high = "from tokenlanes.low import LOW\n\nHIGH = 2\n"
+        found = complaints({"low": low, "high": high})
+        self.assertEqual(len(found), 2)
+
+    def test_it_has_nothing_against_plain_code(self):
+        text = "from tokenlanes.boards import Board\n\n\ndef many(board):\n    return [len(x) for x in board.rows()]\n"
+        board = "class Board:\n    def rows(self):\n        return [\"ab\".upper()]\n"
+        self.assertEqual(complaints({"boards": board, "sample": text}), [])
+
+
+if __name__ == "__main__":
+    unittest.main()

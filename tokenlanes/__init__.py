@@ -1,0 +1,1 @@
+"""Tokenlanes: numbers from gates that take turns."""
