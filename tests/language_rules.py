@@ -46,6 +46,13 @@ BARRED_WORDS = set("""
 """.split())
 BUILTIN_NAMES = [name for name in dir(builtins) if not name.startswith("_")]
 BARRED_FILES = {"test", "tests", "testing", "site", "conftest", "sitecustomize", "usercustomize"}
+CHANGING = set("append clear extend insert pop remove reverse setdefault update add discard".split())
+VIEWS = {"zip", "enumerate", "reversed", "map", "range"}
+TAKERS = set("list tuple dict sorted sum any all enumerate zip min max".split())
+KEYWORDS = {
+    "sorted": {"key", "reverse"}, "min": {"key", "default"}, "max": {"key", "default"}, "sum": {"start"},
+    "enumerate": {"start"}, "zip": {"strict"}, "print": {"file", "sep", "end"}, "dict": set(),
+}
 CAUGHT = {"KeyError", "ZeroDivisionError", "StopIteration", "ValueError", "LookupError", "IndexError"}
 ONCE = set("list tuple dict sorted sum min max any all enumerate zip".split())
 FUNCTIONS = (ast.FunctionDef, ast.AsyncFunctionDef)
@@ -62,11 +69,15 @@ def complaints(files):
         rows = []
         for rule in [file_name, sizes, characters, strings]:
             rows += rule(name, text, trees[name])
-        for rule in [module_level, decorators, special_methods, statements, values, names, errors, identity]:
+        for rule in [
+            module_level, decorators, special_methods, statements, values, names, errors, identity, views, sets,
+            keywords, changes_in_loops,
+        ]:
             rows += rule(trees[name])
         rows += imports(name, trees)
         rows += methods(trees[name], trees)
         rows += generators(trees[name], trees)
+        rows += beside_eq(trees[name], trees)
         found += [f"{name}:{line} {told}" for line, told in sorted(rows)]
     return found
 
@@ -297,3 +308,84 @@ def generators(tree, trees):
             good += node.args
     calls = [node for node in nodes(tree, ast.Call) if ast.unparse(node.func).split(".")[-1] in yielding]
     return [(node.lineno, "L23 the call of a generator") for node in calls if node not in good]
+
+
+def called(node):
+    """Return the bare name that a node calls, None if it calls none."""
+    return node.func.id if isinstance(node, ast.Call) and isinstance(node.func, ast.Name) else None
+
+
+def views(tree):
+    """Return where a zip and the like is neither iterated on the spot nor kept by a name."""
+    good = [node.iter for node in nodes(tree, ast.For, ast.comprehension)]
+    good += [node.value for node in nodes(tree, ast.Assign) if isinstance(node.targets[0], ast.Name)]
+    for node in nodes(tree, ast.Call):
+        if called(node) in TAKERS or isinstance(node.func, ast.Attribute) and node.func.attr == "join":
+            good += node.args[:1] if called(node) != "zip" else node.args
+    ranges = [node for node in nodes(tree, ast.Call) if called(node) == "range"]
+    good += [node for each in nodes(tree, ast.Compare) for node in each.comparators if node in ranges]
+    for each in nodes(tree, ast.Call):
+        if called(each) in ("len", "reversed"):
+            good += [node for node in each.args if node in ranges]
+    return [
+        (node.lineno, f"L23 a {called(node)} that is not iterated") for node in nodes(tree, ast.Call)
+        if called(node) in VIEWS and node not in good
+    ]
+
+
+def sets(tree):
+    """Return where a set stands in a place that is not listed."""
+    made = nodes(tree, ast.Set, ast.SetComp) + [node for node in nodes(tree, ast.Call) if called(node) == "set"]
+    good = [node.value for node in nodes(tree, ast.Assign) if isinstance(node.targets[0], ast.Name)]
+    for node in nodes(tree, ast.Compare):
+        good += node.comparators
+        good += [node.left] if isinstance(node.ops[0], (ast.Eq, ast.NotEq)) else []
+    good += [node.args[0] for node in nodes(tree, ast.Call) if called(node) in ("sorted", "len") and node.args]
+    return [(node.lineno, "L24 the place of a set") for node in made if node not in good]
+
+
+def keywords(tree):
+    found = []
+    for node in nodes(tree, ast.Call):
+        if called(node) in BUILTINS:
+            known = KEYWORDS.get(called(node), set())
+            if not all(part.arg in known for part in node.keywords):
+                found.append((node.lineno, f"L22 a keyword of {called(node)}"))
+    return found
+
+
+def changes_in_loops(tree):
+    """Return the loops that change, by its very name, what they iterate over."""
+    found = []
+    for loop in nodes(tree, ast.For):
+        told = loop.iter.args if called(loop.iter) in VIEWS else [loop.iter]
+        told = [
+            part.func.value if isinstance(part, ast.Call) and isinstance(part.func, ast.Attribute) else part
+            for part in told
+        ]
+        over = [ast.unparse(part) for part in told if isinstance(part, (ast.Name, ast.Attribute, ast.Subscript))]
+        for node in [inner for row in loop.body for inner in ast.walk(row)]:
+            changed = None
+            if isinstance(node, ast.Call) and isinstance(node.func, ast.Attribute) and node.func.attr in CHANGING:
+                changed = ast.unparse(node.func.value)
+            elif isinstance(node, ast.Subscript) and not isinstance(node.ctx, ast.Load):
+                changed = ast.unparse(node.value)
+            if changed in over:
+                found.append((node.lineno, f"L23 the loop changes {changed}"))
+    return found
+
+
+def beside_eq(tree, trees):
+    """Return what does not stand in a package with a class that has __eq__ or __len__."""
+    own = [node.name for each in trees.values() for node in nodes(each, ast.FunctionDef)]
+    if "__eq__" not in own and "__len__" not in own:
+        return []
+    found = [
+        (node.lineno, "L25 sort beside __eq__ or __len__") for node in nodes(tree, ast.Call)
+        if isinstance(node.func, ast.Attribute) and node.func.attr == "sort"
+    ]
+    for node in nodes(tree, ast.Call):
+        if called(node) in ("any", "all", "min", "max", "sum", "sorted"):
+            inner = [part for part in node.args if isinstance(part, ast.GeneratorExp)]
+            found += [(node.lineno, "L7 a generator expression beside __eq__")] * len(inner)
+    return found

@@ -83,3 +83,10 @@ def send_mixed(board, amounts, start, chance, extra=0):
         else:
             flow.step(chance.randrange(len(flow.inside)))
     return flow
+
+
+def standing(flow):
+    """Return the numbers that were not given as often as taken back, and how much more often."""
+    numbers = sorted(set(flow.given + flow.taken))
+    counted = [(number, flow.given.count(number) - flow.taken.count(number)) for number in numbers]
+    return [(number, many) for number, many in counted if many != 0]

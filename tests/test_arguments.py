@@ -3,9 +3,13 @@
 import copy
 import unittest
 
-from samples import FULL_TWO, raised
+from samples import FULL_TWO, HUGE, raised
+from tokenlanes.alike import alike_settings, are_alike, parting_entries
 from tokenlanes.boards import Board, is_setting
+from tokenlanes.counting import failing_entries, is_counting
+from tokenlanes.neutral import basis_of, count_reachable, free_gates, have_same_effect, is_neutral, period_of
 from tokenlanes.passing import amounts_after, exit_of, numbers_of, run_tokens, walk_exits
+from tokenlanes.settings import classes_of, fewest_tokens, reachable
 
 
 def walk_a_while(board, lane, *, start=None):
@@ -24,6 +28,42 @@ def calls():
     ]
 
 
+def searches():
+    """Return new arguments for each function of the other files: good ones, and some that raise an error."""
+    start = [0, 1, 0, 1, 0, 1]
+    few, many = Board(4, [(3, 0)]), Board(4, FULL_TWO * 4)
+    return [
+        (is_neutral, [[2, 0, 2, 0]], {}), (is_neutral, [[HUGE, 0, 0, -HUGE]], {}), (is_neutral, [[1, 0, 0]], {}),
+        (have_same_effect, [[1, 0, 0, 0], [0, 1, 4, 0]], {}), (have_same_effect, [[1, 0, 0, 0], [0, 1, 4, True]], {}),
+        (have_same_effect, [[HUGE] * 4, [-HUGE] * 4], {}), (free_gates, [], {}), (count_reachable, [], {}),
+        (period_of, [0], {}), (basis_of, [], {}),
+        (reachable, [], {"start": list(start)}), (reachable, [], {"start": [0] * 5}),
+        (fewest_tokens, [[1, 1, 0, 0, 0, 0]], {"start": [0] * 6}), (fewest_tokens, [[0] * 5], {"start": list(start)}),
+        (fewest_tokens, [[1, 0, 0, 0, 0, 0]], {"start": [0] * 6}), (fewest_tokens, [list(start)], {"start": list(start)}),
+        (classes_of, [], {}), (is_counting, [], {"start": list(start)}), (failing_entries, [], {"start": list(start)}),
+        (failing_entries, [], {"start": [0] * 7}), (alike_settings, [], {}),
+        (are_alike, [few], {"start": list(start), "other_start": [1]}), (are_alike, [few], {"start": [0] * 5}),
+        (parting_entries, [few], {"start": list(start), "other_start": [1]}),
+        (parting_entries, [many], {"start": list(start), "other_start": [0] * 24}),
+    ]
+
+
+def spoil(value):
+    """Change a result in all places, also the lists inside of it."""
+    if isinstance(value, list):
+        for item in value:
+            spoil(item)
+        value.append("spoilt")
+        value[0] = "spoilt"
+
+
+def lists_in(value):
+    """Return a list and all lists inside of it."""
+    if not isinstance(value, list):
+        return []
+    return [value] + [found for item in value for found in lists_in(item)]
+
+
 class ArgumentsStay(unittest.TestCase):
     def test_lists_given_to_functions(self):
         for call, value, start in calls():
@@ -33,6 +73,19 @@ class ArgumentsStay(unittest.TestCase):
                 raised(call, board, value, start=start)
                 self.assertEqual((value, start), before)
                 self.assertEqual((board.lane_count, board.gate_list), (4, FULL_TWO))
+
+    def test_lists_given_to_searches(self):
+        for call, values, named in searches():
+            with self.subTest(call=call.__name__, values=values, named=named):
+                board = Board(4, list(FULL_TWO))
+                lists = [value for value in [*values, *named.values()] if isinstance(value, list)]
+                before = copy.deepcopy(lists)
+                others = [(value, value.lane_count, value.gate_list) for value in values if isinstance(value, Board)]
+                raised(call, board, *values, **named)
+                self.assertEqual(lists, before)
+                self.assertEqual((board.lane_count, board.gate_list), (4, FULL_TWO))
+                self.assertEqual([(other.lane_count, other.gate_list) for other, _, _ in others],
+                                 [(lanes, gates) for _, lanes, gates in others])
 
     def test_start_of_exit_of(self):
         start = [0, 1, 0, 1, 0, 1]
@@ -77,6 +130,31 @@ class ResultsAreNew(unittest.TestCase):
         numbers.clear()
         self.assertEqual(numbers_of(board, [0, 1, 3]), [0, 1, 2])
 
+    def test_changed_results_of_searches_have_no_effect_on_later_ones(self):
+        board = Board(4, FULL_TWO)
+        for call, values, named in searches():
+            if raised(call, board, *values, **named) is None:
+                with self.subTest(call=call.__name__, values=values, named=named):
+                    first = call(board, *values, **named)
+                    kept = copy.deepcopy(first)
+                    spoil(first)
+                    self.assertEqual(call(board, *values, **named), kept)
+                    self.assertEqual(call(Board(4, FULL_TWO), *values, **named), kept)
+                    self.assertEqual((board.lane_count, board.gate_list), (4, FULL_TWO))
+
+    def test_each_list_in_a_result_is_an_object_of_its_own(self):
+        for gates in [[], [(0, 1)], FULL_TWO]:
+            board = Board(4, gates)
+            setting, many = [0] * len(gates), Board(4, [(1, 2)] * len(gates))
+            results = [
+                free_gates(board), basis_of(board), reachable(board), reachable(board, start=setting),
+                fewest_tokens(board, setting), fewest_tokens(board, setting, start=setting), classes_of(board),
+                failing_entries(board), failing_entries(board, start=setting), alike_settings(board),
+                parting_entries(board, many, start=setting, other_start=setting),
+            ]
+            found = [each for result in results for each in lists_in(result)] + [setting, board.gate_list]
+            self.assertEqual(len({id(each) for each in found}), len(found))
+
     def test_changed_gate_lists_have_no_effect(self):
         boards = [Board(4, FULL_TWO), Board.full(2), Board.read("4: 0-1 2-3 0-3 1-2 0-1 2-3")]
         boards.append(Board(4, FULL_TWO[:3]).followed_by(Board(4, FULL_TWO[3:])))
@@ -101,6 +179,18 @@ class ResultsAreNew(unittest.TestCase):
 
 
 class LaterChanges(unittest.TestCase):
+    def test_gates_changed_before_a_search(self):
+        gates = list(FULL_TWO)
+        board = Board(4, gates)
+        gates[0] = (1, 3)
+        gates.append((0, 2))
+        board.gate_list.clear()
+        for call, values, named in searches():
+            if raised(call, board, *values, **named) is None:
+                with self.subTest(call=call.__name__, values=values, named=named):
+                    found = call(Board(4, FULL_TWO), *values, **named)
+                    self.assertEqual(call(board, *values, **named), found)
+
     def test_gates_changed_after_the_board_was_made(self):
         gates = list(FULL_TWO)
         board = Board(4, gates)

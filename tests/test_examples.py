@@ -33,11 +33,61 @@ PASSING = [
 [[250000000000000000000000000000, 249999999999999999999999999999], [0, 1, 0, 2, 2]]
 """,
 ]
+NEUTRAL = [
+    """
+>>> from tokenlanes.boards import Board
+>>> from tokenlanes.neutral import count_reachable, free_gates, period_of
+>>> full, three = Board.full(2), Board(3, [(0, 1), (1, 2), (0, 1)])
+>>> [free_gates(full), count_reachable(full), period_of(full, 0), period_of(three, 0)]
+[[0, 1, 2], 8, 4, 8]
+""",
+    """
+>>> from tokenlanes.boards import Board
+>>> from tokenlanes.neutral import have_same_effect, is_neutral
+>>> full = Board.full(2)
+>>> told = [is_neutral(full, amounts) for amounts in [[2, 0, 0, 0], [2, 0, 2, 0], [1, -1, 0, 0]]]
+>>> [told, have_same_effect(full, [1, 0, 0, 0], [0, 1, 4, 0])]
+[[False, True, True], True]
+""",
+]
+SETTINGS = [
+    """
+>>> from tokenlanes.boards import Board
+>>> from tokenlanes.settings import fewest_tokens, reachable
+>>> full = Board.full(2)
+>>> [len(reachable(full)), reachable(full)[:2], fewest_tokens(full, [1, 1, 0, 0, 0, 0]), fewest_tokens(full, [1, 0, 0, 0, 0, 0])]
+[8, [[0, 0, 0, 0, 0, 0], [0, 0, 1, 1, 0, 0]], [0, 1, 0, 3], None]
+""",
+    """
+>>> from tokenlanes.boards import Board
+>>> from tokenlanes.settings import classes_of
+>>> classes_of(Board(2, [(0, 1), (0, 1)]))
+[[[0, 0], [1, 1]], [[0, 1], [1, 0]]]
+""",
+]
+COUNTING = [
+    """
+>>> from tokenlanes.boards import Board
+>>> from tokenlanes.counting import failing_entries, is_counting
+>>> full, three = Board.full(2), Board(3, [(0, 1), (1, 2), (0, 1)])
+>>> [is_counting(full), failing_entries(three), failing_entries(full, start=[0, 0, 0, 0, 0, 1])]
+[True, [2, 2], [0, 0, 0]]
+""",
+]
+ALIKE = [
+    """
+>>> from tokenlanes.alike import alike_settings, are_alike, parting_entries
+>>> from tokenlanes.boards import Board
+>>> once, twice = Board(2, [(0, 1)]), Board(2, [(0, 1), (0, 1)])
+>>> [alike_settings(twice), are_alike(once, twice), parting_entries(once, Board(2, [])), parting_entries(once, twice, other_start=[0, 1])]
+[[[[0, 0], [1, 0]], [[0, 1], [1, 1]]], True, [1], [0]]
+""",
+]
 
 
 class Examples(unittest.TestCase):
     def test_examples(self):
-        for example in BOARDS + PASSING:
+        for example in BOARDS + PASSING + NEUTRAL + SETTINGS + COUNTING + ALIKE:
             with self.subTest(example=example):
                 found, expected = outcome_of(example)
                 self.assertEqual(found, expected)

@@ -4,7 +4,7 @@ import random
 import unittest
 
 from samples import full, raised, three
-from slow_model import SlowFlow
+from slow_model import SlowFlow, standing
 from tokenlanes.boards import Board
 from tokenlanes.passing import amounts_after, exit_of, numbers_of, run_tokens
 
@@ -86,13 +86,6 @@ class Overtaking(unittest.TestCase):
             if chance.random() < 0.5:
                 flow.step(chance.randrange(len(flow.inside)))
         flow.finish_mixed(chance)
-
-
-def standing(flow):
-    """Return the numbers that were not given as often as taken back, and how much more often."""
-    numbers = sorted(set(flow.given + flow.taken))
-    counted = [(number, flow.given.count(number) - flow.taken.count(number)) for number in numbers]
-    return [(number, many) for number, many in counted if many != 0]
 
 
 class LanesOfFullBoards(unittest.TestCase):

@@ -3,7 +3,7 @@
 import inspect
 import unittest
 
-from tokenlanes import boards, passing
+from tokenlanes import alike, boards, counting, neutral, passing, settings
 from tokenlanes.boards import Board
 
 FUNCTIONS = [
@@ -13,6 +13,20 @@ FUNCTIONS = [
     (passing, "amounts_after", "(board, amounts, *, start=None)"),
     (passing, "exit_of", "(board, lane, number, *, start=None)"),
     (passing, "walk_exits", "(board, lane, *, start=None)"),
+    (neutral, "is_neutral", "(board, amounts)"),
+    (neutral, "have_same_effect", "(board, amounts, other_amounts)"),
+    (neutral, "free_gates", "(board)"),
+    (neutral, "count_reachable", "(board)"),
+    (neutral, "period_of", "(board, lane)"),
+    (neutral, "basis_of", "(board)"),
+    (settings, "reachable", "(board, *, start=None)"),
+    (settings, "fewest_tokens", "(board, goal, *, start=None)"),
+    (settings, "classes_of", "(board)"),
+    (counting, "is_counting", "(board, *, start=None)"),
+    (counting, "failing_entries", "(board, *, start=None)"),
+    (alike, "alike_settings", "(board)"),
+    (alike, "are_alike", "(board, other, *, start=None, other_start=None)"),
+    (alike, "parting_entries", "(board, other, *, start=None, other_start=None)"),
 ]
 
 

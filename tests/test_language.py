@@ -46,7 +46,18 @@ WRONG = [
     ("L19", "def low():\n    raise wrong\n"),
     ("L20", "def low(x, y):\n    return x is y\n"),
     ("L23", "def low():\n    yield 1\n\n\ndef high():\n    return low()\n"),
+    ("L22", "def low(xs):\n    return sum(xs, key=1)\n"),
+    ("L22", "def low(n):\n    return int(n, base=3)\n"),
+    ("L23", "def low(xs):\n    return zip(xs, xs)\n"),
+    ("L23", "def low(xs):\n    return len(reversed(xs))\n"),
+    ("L23", "def low(xs):\n    return [1, range(3)]\n"),
+    ("L23", "def low(xs):\n    for x in xs:\n        xs.append(x)\n"),
+    ("L23", "def low(xs):\n    for at, x in enumerate(xs):\n        xs[at] = x + 1\n"),
+    ("L23", "def low(d):\n    for k, x in d.items():\n        del d[k]\n"),
+    ("L23", "def low(box):\n    for x in box.rows:\n        if x > 1:\n            box.rows.pop()\n"),
     ("L24", "def low(xs):\n    return [x for x in set(xs)]\n"),
+    ("L24", "def low(xs):\n    return set(xs)\n"),
+    ("L24", "def low(xs):\n    return max({x for x in xs})\n"),
     ("L25", "def low(x):\n    return x.isidentical()\n"),
     ("L27", "def low(n):\n    return 2 ** (n + 1)\n"),
     ("L27", "NAME = 'a%b'\n"),
@@ -85,6 +96,30 @@ class Script(unittest.TestCase):
         high = "from tokenlanes.low import LOW\n\nHIGH = 2\n"
         found = complaints({"low": low, "high": high})
         self.assertEqual(len(found), 2)
+
+    def test_it_sees_what_does_not_stand_beside_eq(self):
+        box = "class Box:\n    def __eq__(self, other):\n        return isinstance(other, Box) and self.n == other.n\n"
+        for rule, text in [
+            ("L25", "def low(xs):\n    xs.sort()\n"), ("L7", "def low(xs):\n    return any(x > 1 for x in xs)\n"),
+            ("L7", "def low(xs):\n    return max(x + 1 for x in xs)\n"),
+        ]:
+            with self.subTest(rule=rule, text=text):
+                self.assertIn(rule, " ".join(complaints({"sample": text, "box": box})).split())
+                self.assertEqual(complaints({"sample": text}), [])
+
+    def test_it_lets_views_and_sets_stand_in_their_places(self):
+        text = (
+            "def low(xs, ys):\n"
+            "    pairs = zip(xs, ys)\n"
+            "    told = [x + y for x, y in pairs]\n"
+            "    for at, (x, y) in enumerate(zip(xs, ys)):\n"
+            "        told.append(x + y + at)\n"
+            "    seen = set()\n"
+            "    seen.add(3)\n"
+            "    back = [at for at in reversed(range(3)) if at in {1, 2} and at in range(2)]\n"
+            "    return sorted(seen), len(set(xs)), set(xs) == {x for x in ys}, sum(told, start=1), back\n"
+        )
+        self.assertEqual(complaints({"sample": text}), [])
 
     def test_it_has_nothing_against_plain_code(self):
         text = "from tokenlanes.boards import Board\n\n\ndef many(board):\n    return [len(x) for x in board.rows()]\n"

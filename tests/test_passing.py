@@ -5,6 +5,7 @@ import unittest
 
 from samples import FULL_TWO, HUGE, all_settings, bare, full, random_cases, three, widest
 from slow_model import send_in_turn, send_mixed
+from slow_search import halves_are_whole, settings_from, small_amounts
 from tokenlanes.boards import Board
 from tokenlanes.passing import amounts_after, exit_of, numbers_of, run_tokens, walk_exits
 
@@ -213,13 +214,13 @@ class BackAndTogether(unittest.TestCase):
 
     def test_what_changes_no_pointer_does_so_from_each_setting(self):
         for _, board, _ in random_cases(16, 25, most_gates=5):
-            for amounts in small_amounts(board):
+            for amounts in small_amounts(board, [-1, 0, 2]):
                 stays = [amounts_after(board, amounts, start=start)[1] == start for start in all_settings(board)]
                 self.assertEqual(stays, [halves_are_whole(board, amounts)] * len(stays))
 
     def test_same_effect_if_the_difference_changes_nothing(self):
         for chance, board, start in random_cases(17, 200, most_gates=4):
-            first, second = chance.choice(small_amounts(board)), chance.choice(small_amounts(board))
+            first, second = [chance.choice(small_amounts(board, [-1, 0, 2])) for _ in range(2)]
             difference = plus(first, [-amount for amount in second])
             same = amounts_after(board, first, start=start)[1] == amounts_after(board, second, start=start)[1]
             self.assertEqual(same, halves_are_whole(board, difference))
@@ -233,33 +234,6 @@ class BackAndTogether(unittest.TestCase):
 
 def plus(first, second):
     return [one + two for one, two in zip(first, second)]
-
-
-def small_amounts(board):
-    lanes = min(board.lane_count, 4)
-    rest = [0] * (board.lane_count - lanes)
-    return [[*row, *rest] for row in itertools.product([-1, 0, 2], repeat=lanes)]
-
-
-def halves_are_whole(board, amounts):
-    """Return whether an even number passes each gate, if each gate gives half to each lane."""
-    amounts = list(amounts)
-    for first, second in board.gate_list:
-        many = amounts[first] + amounts[second]
-        if many & 1:
-            return False
-        amounts[first] = amounts[second] = many // 2
-    return True
-
-
-def settings_from(board, start):
-    found = [start]
-    for setting in found:
-        for lane in range(board.lane_count):
-            after = run_tokens(board, [lane], start=setting)[1]
-            if after not in found:
-                found.append(after)
-    return found
 
 
 class ExitOf(unittest.TestCase):
