@@ -8,6 +8,9 @@ import ast
 import builtins
 import re
 
+from language_tools import CHANGING, FUNCTIONS, called, nodes
+from language_uses import RULES
+
 LIBRARY = {
     "heapq": {"heappush", "heappop", "heapify", "heapreplace", "heappushpop"},
     "math": {"gcd", "lcm", "isqrt", "comb", "perm", "factorial"},
@@ -46,7 +49,6 @@ BARRED_WORDS = set("""
 """.split())
 BUILTIN_NAMES = [name for name in dir(builtins) if not name.startswith("_")]
 BARRED_FILES = {"test", "tests", "testing", "site", "conftest", "sitecustomize", "usercustomize"}
-CHANGING = set("append clear extend insert pop remove reverse setdefault update add discard".split())
 VIEWS = {"zip", "enumerate", "reversed", "map", "range"}
 TAKERS = set("list tuple dict sorted sum any all enumerate zip min max".split())
 KEYWORDS = {
@@ -55,7 +57,6 @@ KEYWORDS = {
 }
 CAUGHT = {"KeyError", "ZeroDivisionError", "StopIteration", "ValueError", "LookupError", "IndexError"}
 ONCE = set("list tuple dict sorted sum min max any all enumerate zip".split())
-FUNCTIONS = (ast.FunctionDef, ast.AsyncFunctionDef)
 PLAIN = (
     ast.Constant, ast.List, ast.Tuple, ast.Dict, ast.Name, ast.UnaryOp, ast.BinOp, ast.Load, ast.operator, ast.unaryop,
 )
@@ -75,15 +76,10 @@ def complaints(files):
         ]:
             rows += rule(trees[name])
         rows += imports(name, trees)
-        rows += methods(trees[name], trees)
-        rows += generators(trees[name], trees)
-        rows += beside_eq(trees[name], trees)
+        for rule in [methods, generators, beside_eq, *RULES]:
+            rows += rule(trees[name], trees)
         found += [f"{name}:{line} {told}" for line, told in sorted(rows)]
     return found
-
-
-def nodes(tree, *kinds):
-    return [node for node in ast.walk(tree) if isinstance(node, kinds)]
 
 
 def file_name(name, text, tree):
@@ -308,11 +304,6 @@ def generators(tree, trees):
             good += node.args
     calls = [node for node in nodes(tree, ast.Call) if ast.unparse(node.func).split(".")[-1] in yielding]
     return [(node.lineno, "L23 the call of a generator") for node in calls if node not in good]
-
-
-def called(node):
-    """Return the bare name that a node calls, None if it calls none."""
-    return node.func.id if isinstance(node, ast.Call) and isinstance(node.func, ast.Name) else None
 
 
 def views(tree):

@@ -20,14 +20,13 @@ class SlowFlow:
         self.inside.append([lane, 0, is_return])
 
     def step(self, place):
-        """Let the one at a place of `inside` pass its next gate, or leave."""
+        """Let the one at a place of `inside` pass its next gate, or leave and return its number."""
         lane, index, is_return = self.inside[place]
         while index < len(self.gates) and lane not in self.gates[index]:
             index += 1
         if index == len(self.gates):
             del self.inside[place]
-            self.leave(lane, is_return)
-            return
+            return self.leave(lane, is_return)
         if is_return:
             self.setting[index] = 1 if self.setting[index] == 0 else 0
             lane = self.gates[index][self.setting[index]]
@@ -35,6 +34,7 @@ class SlowFlow:
             lane = self.gates[index][self.setting[index]]
             self.setting[index] = 1 if self.setting[index] == 0 else 0
         self.inside[place] = [lane, index + 1, is_return]
+        return None
 
     def leave(self, lane, is_return):
         self.exits.append(lane)
@@ -42,9 +42,10 @@ class SlowFlow:
         if is_return:
             self.taken.append(lane + self.lanes * (before - 1))
             self.amounts[lane] = before - 1
-        else:
-            self.given.append(lane + self.lanes * before)
-            self.amounts[lane] = before + 1
+            return self.taken[-1]
+        self.given.append(lane + self.lanes * before)
+        self.amounts[lane] = before + 1
+        return self.given[-1]
 
     def finish_first(self):
         while self.inside:

@@ -181,3 +181,25 @@ def multiples_of(basis, amounts):
     whole = determinant(basis)
     parts = [determinant(basis[:row] + [amounts] + basis[row + 1:]) for row in range(len(basis))]
     return [part / whole for part in parts]
+
+
+def starts_by_search(board, seen, settings):
+    """Return those of the settings from which the seen tokens leave as seen."""
+    found = []
+    for setting in settings:
+        flow = SlowFlow(board.lane_count, board.gate_list, setting)
+        for entry, _ in seen:
+            flow.enter(entry)
+            flow.finish_first()
+        if flow.exits == [way_out for _, way_out in seen]:
+            found.append(setting)
+    return found
+
+
+def first_without_start(board, seen, settings):
+    """Return the least index such that the tokens up to it have no start, None if there is none."""
+    for index in itertools.count():
+        if index == len(seen):
+            return None
+        if not starts_by_search(board, seen[:index + 1], settings):
+            return index

@@ -7,9 +7,11 @@ from samples import FULL_TWO, HUGE, raised
 from tokenlanes.alike import alike_settings, are_alike, parting_entries
 from tokenlanes.boards import Board, is_setting
 from tokenlanes.counting import failing_entries, is_counting
+from tokenlanes.hidden import certain_pointers, possible_exits, possible_starts
 from tokenlanes.neutral import basis_of, count_reachable, free_gates, have_same_effect, is_neutral, period_of
 from tokenlanes.passing import amounts_after, exit_of, numbers_of, run_tokens, walk_exits
 from tokenlanes.settings import classes_of, fewest_tokens, reachable
+from tokenlanes.texts import read_setting, show_board, show_setting
 
 
 def walk_a_while(board, lane, *, start=None):
@@ -39,12 +41,19 @@ def searches():
         (period_of, [0], {}), (basis_of, [], {}),
         (reachable, [], {"start": list(start)}), (reachable, [], {"start": [0] * 5}),
         (fewest_tokens, [[1, 1, 0, 0, 0, 0]], {"start": [0] * 6}), (fewest_tokens, [[0] * 5], {"start": list(start)}),
-        (fewest_tokens, [[1, 0, 0, 0, 0, 0]], {"start": [0] * 6}), (fewest_tokens, [list(start)], {"start": list(start)}),
+        (fewest_tokens, [[1, 0, 0, 0, 0, 0]], {"start": [0] * 6}),
+        (fewest_tokens, [list(start)], {"start": list(start)}),
         (classes_of, [], {}), (is_counting, [], {"start": list(start)}), (failing_entries, [], {"start": list(start)}),
         (failing_entries, [], {"start": [0] * 7}), (alike_settings, [], {}),
         (are_alike, [few], {"start": list(start), "other_start": [1]}), (are_alike, [few], {"start": [0] * 5}),
         (parting_entries, [few], {"start": list(start), "other_start": [1]}),
         (parting_entries, [many], {"start": list(start), "other_start": [0] * 24}),
+        (possible_starts, [[(0, 1), (2, 3), (1, 1)]], {}), (possible_starts, [[]], {}),
+        (possible_starts, [[(0, 4)]], {}),
+        (certain_pointers, [[(0, 1), (2, 3), (1, 1)]], {}), (certain_pointers, [[(2, 3), (2, 3), (2, 3)]], {}),
+        (possible_exits, [[(0, 1), (2, 3), (1, 1)], 2], {}), (possible_exits, [[(2, 3), (2, 3)], 1], {}),
+        (show_board, [], {}), (show_setting, [list(start)], {}), (show_setting, [[0] * 5], {}),
+        (read_setting, ["010101"], {}), (read_setting, ["01010"], {}),
     ]
 
 
@@ -150,6 +159,8 @@ class ResultsAreNew(unittest.TestCase):
                 free_gates(board), basis_of(board), reachable(board), reachable(board, start=setting),
                 fewest_tokens(board, setting), fewest_tokens(board, setting, start=setting), classes_of(board),
                 failing_entries(board), failing_entries(board, start=setting), alike_settings(board),
+                possible_starts(board, []), possible_starts(board, [(3, 3)]), certain_pointers(board, []),
+                possible_exits(board, [], 0), read_setting(board, show_setting(board, setting)),
                 parting_entries(board, many, start=setting, other_start=setting),
             ]
             found = [each for result in results for each in lists_in(result)] + [setting, board.gate_list]

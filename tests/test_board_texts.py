@@ -1,24 +1,11 @@
+"""Reading the texts of boards by the class itself."""
+
 import random
 import unittest
 
 from samples import FULL_THREE, FULL_TWO, NOT_LISTS, bare, raised, random_board
+from text_samples import NO_TEXTS, text_of
 from tokenlanes.boards import Board
-
-
-def text_of(lanes, gates):
-    return str(lanes) + ":" + "".join([" " + str(first) + "-" + str(second) for first, second in gates])
-
-
-NO_TEXTS = [
-    "", " ", ":", "2", "3", "::", " :", "-:", "2: ", "2 :", " 2:", "2:\n", "\n2:", "2:2:", "2; 0-1", "2 0-1",
-    "02:", "+2:", "-2:", "2.0:", "0b10:", "10:", "22:", "0:", "1:", "9:", "a:", "two:",
-    "2:0-1", "2:  0-1", "2: 0-1 ", "2: 0-1  1-0", "2: 0-1\n", "2: 0-1,1-0", "2: 0-11-0", "2:\t0-1", "2:\n0-1",
-    "2: 0", "2: 0-", "2: -1", "2: 0 1", "2: 01", "2: 0_1", "2: 0+1", "2: 0--1", "2: 0-1-0", "2: 00-1", "2: 0-01",
-    "2: +0-1", "2: 0-+1", "2: -0-1", "2: 0- 1", "2: 0 -1", "2: 0-1 1", "2: 0-1 1-", "2: 0-1 1-0 0",
-    "2: 0-0", "2: 1-1", "2: 0-2", "2: 2-0", "3: 0-3", "7: 0-7", "8: 0-8", "8: 8-0", "8: 0-9", "2: a-b", "2: 0-1 0-x",
-    "2: --1", "2: 0--", "2:  -1", "2: x-1", "(2, [])", "2: (0, 1)", "1: 0-0", "9: 0-1", "9: 0-8",
-    "\u0662:", "2: \u0660-1", "2: 0\u20101", "\uff12:", "2:\u00a00-1", "\u00b2:",
-]
 
 
 class Reading(unittest.TestCase):
@@ -72,7 +59,8 @@ class Reading(unittest.TestCase):
 
     def test_values_that_are_no_texts(self):
         wrong_values = [value for value in NOT_LISTS if not isinstance(value, str)]
-        for wrong in wrong_values + [2, b"2:", b"2: 0-1", ["2:"], ("2:",), ["2", ":"], ("2", ":"), {"2:": 1}, str, bare]:
+        wrong_values += [2, b"2:", b"2: 0-1", ["2:"], ("2:",), ["2", ":"], ("2", ":"), {"2:": 1}, str, bare]
+        for wrong in wrong_values:
             with self.subTest(wrong=wrong):
                 self.assertEqual(raised(Board.read, wrong), ("InvalidText", {}))
 

@@ -83,11 +83,72 @@ ALIKE = [
 [[[[0, 0], [1, 0]], [[0, 1], [1, 1]]], True, [1], [0]]
 """,
 ]
+HIDDEN = [
+    """
+>>> from tokenlanes.boards import Board
+>>> from tokenlanes.hidden import certain_pointers, possible_exits, possible_starts
+>>> twice, three = Board(2, [(0, 1), (0, 1)]), Board(3, [(0, 1), (1, 2), (0, 1)])
+>>> [possible_starts(twice, [(0, 1), (1, 0)]), certain_pointers(twice, [(0, 1)]), possible_exits(three, [(2, 2)], 2)]
+[[[0, 1], [1, 1]], [None, 1], [0, 1]]
+""",
+    """
+>>> from tokenlanes.boards import Board
+>>> from tokenlanes.hidden import certain_pointers
+>>> certain_pointers(Board(2, [(0, 1)]), [(0, 1), (0, 1)])
+raises Contradiction(index=1)
+""",
+]
+FLOWS = [
+    """
+>>> from tokenlanes.boards import Board
+>>> from tokenlanes.flows import Flow
+>>> flow = Flow(Board.full(2))
+>>> tickets = [flow.enter(0), flow.enter(0)]
+>>> early = [flow.numbers_to_come(), flow.numbers_open(0), flow.advance(0), flow.finish(1), flow.setting_now]
+>>> [early, flow.inside_now, flow.numbers_open(0), flow.finish_all(), list(flow.events()), flow.amounts_now]
+[[[0, 1], [0, 1], None, [0], [0, 0, 0, 1, 1, 0]], [(0, 0, 2)], [1], [1], [(1, 0), (0, 1)], [1, 1, 0, 0]]
+""",
+    """
+>>> from tokenlanes.boards import Board
+>>> from tokenlanes.flows import Flow
+>>> flow = Flow(Board.full(2))
+>>> tickets = [flow.enter(0), flow.give_back(3)]
+>>> [flow.amounts_at_end(), flow.finish(1, 0), flow.setting_now, flow.amounts_now, len(flow)]
+[[0, 0, 0, 0], [-1, -1], [1, 1, 0, 0, 0, 0], [0, 0, 0, 0], 0]
+""",
+]
+TEXTS = [
+    """
+>>> from tokenlanes.boards import Board
+>>> from tokenlanes.texts import read_board, read_setting, show_board, show_setting
+>>> [show_board(Board.full(2)), show_setting(Board(2, []), []), read_setting(Board(2, [(1, 0)]), '1'), read_board('2: 1-0').gate_list]
+['4: 0-1 2-3 0-3 1-2 0-1 2-3', '-', [1], [(1, 0)]]
+""",
+    """
+>>> from tokenlanes.texts import read_board
+>>> read_board('2: 0-2')
+raises InvalidText
+""",
+]
+DESK = [
+    """
+>>> from tokenlanes.desk import Desk
+>>> desk = Desk()
+>>> rows = ['board 2: 0-1', 'enter 1', 'enter 0', 'come', 'go 1', 'open 0', 'all', 'setting', 'amounts', 'counts']
+>>> [desk.execute(row) for row in rows]
+['ok', '0', '1', '0 1', '-', '1', '1 0', '0', '1 1', 'yes']
+""",
+    """
+>>> from tokenlanes.desk import Desk
+>>> Desk().execute('undo')
+raises NoFlow
+""",
+]
 
 
 class Examples(unittest.TestCase):
     def test_examples(self):
-        for example in BOARDS + PASSING + NEUTRAL + SETTINGS + COUNTING + ALIKE:
+        for example in BOARDS + PASSING + NEUTRAL + SETTINGS + COUNTING + ALIKE + HIDDEN + FLOWS + TEXTS + DESK:
             with self.subTest(example=example):
                 found, expected = outcome_of(example)
                 self.assertEqual(found, expected)

@@ -3,8 +3,10 @@
 import inspect
 import unittest
 
-from tokenlanes import alike, boards, counting, neutral, passing, settings
+from tokenlanes import alike, boards, counting, errors, hidden, neutral, passing, settings, texts
 from tokenlanes.boards import Board
+from tokenlanes.desk import Desk
+from tokenlanes.flows import Flow
 
 FUNCTIONS = [
     (boards, "is_setting", "(board, value)"),
@@ -27,6 +29,19 @@ FUNCTIONS = [
     (alike, "alike_settings", "(board)"),
     (alike, "are_alike", "(board, other, *, start=None, other_start=None)"),
     (alike, "parting_entries", "(board, other, *, start=None, other_start=None)"),
+    (hidden, "possible_starts", "(board, seen)"),
+    (hidden, "certain_pointers", "(board, seen)"),
+    (hidden, "possible_exits", "(board, seen, lane)"),
+    (texts, "show_board", "(board)"),
+    (texts, "read_board", "(text)"),
+    (texts, "show_setting", "(board, setting)"),
+    (texts, "read_setting", "(board, text)"),
+]
+FLOW_METHODS = [
+    ("enter", "(self, lane)"), ("give_back", "(self, lane)"), ("advance", "(self, ticket)"),
+    ("finish", "(self, *tickets)"), ("finish_all", "(self)"), ("undo", "(self)"), ("amounts_at_end", "(self)"),
+    ("numbers_to_come", "(self)"), ("numbers_open", "(self, ticket)"), ("events", "(self)"), ("twin", "(self)"),
+    ("__len__", "(self)"),
 ]
 
 
@@ -53,6 +68,30 @@ class Interface(unittest.TestCase):
         for name in ["followed_by", "__init__", "__len__", "__eq__"]:
             with self.subTest(name=name):
                 self.assertTrue(inspect.isfunction(vars(Board)[name]))
+
+    def test_the_flow_class(self):
+        self.assertEqual(Flow.__module__, "tokenlanes.flows")
+        self.assertEqual(str(inspect.signature(Flow)), "(board, *, start=None)")
+        for name in ["setting_now", "amounts_now", "inside_now"]:
+            self.assertIsInstance(vars(Flow)[name], property)
+        for name, arguments in FLOW_METHODS:
+            with self.subTest(name=name):
+                self.assertTrue(inspect.isfunction(vars(Flow)[name]))
+                self.assertEqual(str(inspect.signature(vars(Flow)[name])), arguments)
+        self.assertTrue(inspect.isgeneratorfunction(Flow.events))
+        self.assertTrue(inspect.isgeneratorfunction(passing.walk_exits))
+
+    def test_the_desk_class(self):
+        self.assertEqual(Desk.__module__, "tokenlanes.desk")
+        self.assertEqual(str(inspect.signature(Desk)), "()")
+        self.assertTrue(inspect.isfunction(vars(Desk)["execute"]))
+        self.assertEqual(str(inspect.signature(Desk.execute)), "(self, row)")
+
+    def test_the_error_classes_stand_in_their_file(self):
+        for name, found in vars(errors).items():
+            if inspect.isclass(found):
+                self.assertEqual(found.__module__, "tokenlanes.errors")
+                self.assertEqual(found.__bases__, (ValueError,) if name == "LaneError" else (errors.LaneError,))
 
 
 if __name__ == "__main__":

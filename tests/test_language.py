@@ -64,6 +64,32 @@ WRONG = [
     ("L27", "NAME = 'a\\x41'\n"),
     ("L28", "class Box:\n    def __eq__(self, other):\n        return True\n"),
     ("L28", "class Box:\n    def __len__(self):\n        return self.n\n"),
+    ("L2", "from itertools import permutations\n\n\ndef low(xs):\n    ys = permutations(xs)\n    return list(ys)\n"),
+    ("L2", "from itertools import product\n\n\ndef low(xs):\n    return max(product(xs), key=len)\n"),
+    ("L3", "def low():\n    return 1\n\n\nROWS = {1: low}\n\n\ndef high(n):\n    return ROWS[n]()\n"),
+    ("L4", "class Box:\n    def low(*rest):\n        return rest\n"),
+    ("L4", "def low():\n    return lambda *rest: rest\n"),
+    ("L5", "class Box:\n    @property\n    def low(self):\n        self.n = 1\n        return self.n\n"),
+    ("L5", "class Box:\n    @property\n    def low(self):\n        self.rows.append(1)\n        return 1\n"),
+    ("L5", "class Box:\n    @property\n    def low(self):\n        self.rows[0] = 1\n        return 1\n"),
+    ("L28", "class Box:\n    def __len__(self):\n        self.rows.pop()\n        return len(self.rows)\n"),
+    ("L15", "ROWS = [[1], [2]]\n"),
+    ("L15", "ROWS = ([1], 2)\n"),
+    ("L15", "ROWS = [1]\n\n\ndef low():\n    ROWS.append(1)\n"),
+    ("L15", "ROWS = [1]\n\n\ndef low():\n    ROWS[0] = 1\n"),
+    ("L15", "from tokenlanes.boards import Board\n\n\ndef low(Board):\n    return Board\n"),
+    ("L15", "from tokenlanes.boards import Board\n\n\ndef low():\n    Board = 1\n    return Board\n"),
+    ("L18", "def low(box):\n    return box.many\n"),
+    ("L18", "class Box:\n    def many(self):\n        self.many = 1\n"),
+    ("L18", "class Box:\n    def low(self):\n        return 1\n\n    def low(self):\n        return 2\n"),
+    ("L22", "def low(n):\n    return n\n\n\ndef high():\n    return low()\n"),
+    ("L22", "def low(n):\n    return n\n\n\ndef high():\n    return low(1, 2)\n"),
+    ("L22", "def low(n, *, by=1):\n    return n\n\n\ndef high():\n    return low(1, to=2)\n"),
+    ("L22", "class Box:\n    def __init__(self, n):\n        self.n = n\n\n\ndef high():\n    return Box()\n"),
+    ("L22", "class Box:\n    def low(self, n):\n        return n\n\n\ndef high(box):\n    return box.low()\n"),
+    ("L23", "def low():\n    yield 1\n\n\nclass Box:\n    def low(self):\n        return 1\n"),
+    ("L23", "class Box:\n    @staticmethod\n    def low():\n        yield 1\n"),
+    ("L23", "def low(n):\n    try:\n        yield n\n    except KeyError:\n        return\n"),
 ]
 
 
@@ -118,6 +144,24 @@ class Script(unittest.TestCase):
             "    seen.add(3)\n"
             "    back = [at for at in reversed(range(3)) if at in {1, 2} and at in range(2)]\n"
             "    return sorted(seen), len(set(xs)), set(xs) == {x for x in ys}, sum(told, start=1), back\n"
+        )
+        self.assertEqual(complaints({"sample": text}), [])
+
+    def test_it_lets_stars_tables_and_products_stand_in_their_places(self):
+        text = (
+            "from itertools import permutations\n\n\n"
+            "def low(n):\n    return n\n\n\n"
+            "ROWS = {\"a\": low, \"b\": low}\n\n\n"
+            "class Box:\n"
+            "    def __init__(self, rows, *, by=1):\n        self.rows = rows\n        self.by = by\n\n"
+            "    @property\n    def many(self):\n        found = []\n        found.append(self.by)\n"
+            "        return found\n\n"
+            "    def walk(self):\n        for row in self.rows:\n            yield row\n\n"
+            "    def take(self, *rest):\n        return list(rest)\n\n\n"
+            "def high(word):\n"
+            "    action = ROWS[word]\n"
+            "    box = Box([1], by=2)\n"
+            "    return action(1), [x for x in permutations([1, 2])], box.many, box.take(), box.take(1, 2), low(n=1)\n"
         )
         self.assertEqual(complaints({"sample": text}), [])
 

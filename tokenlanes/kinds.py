@@ -1,12 +1,15 @@
 """Tests of any values for the kinds that the arguments have."""
 
 
+def is_whole(value):
+    """Return whether any value is an integer."""
+    # A bool is an int for Python, but not an integer for this package.
+    return isinstance(value, int) and not isinstance(value, bool)
+
+
 def is_between(value, low, high):
     """Return whether any value is an integer from low to high."""
-    # A bool is an int for Python, but not an integer for this package.
-    if not isinstance(value, int) or isinstance(value, bool):
-        return False
-    return low <= value <= high
+    return is_whole(value) and low <= value <= high
 
 
 def is_list_between(value, low, high):
@@ -16,10 +19,13 @@ def is_list_between(value, low, high):
     return all([is_between(item, low, high) for item in value])
 
 
-def is_gate(value, lane_count):
-    """Return whether any value is a tuple of two different lanes."""
+def is_lane_pair(value, lane_count):
+    """Return whether any value is a tuple of two lanes."""
     if not isinstance(value, tuple) or len(value) != 2:
         return False
-    first, second = value
-    last = lane_count - 1
-    return is_between(first, 0, last) and is_between(second, 0, last) and first != second
+    return all([is_between(lane, 0, lane_count - 1) for lane in value])
+
+
+def is_gate(value, lane_count):
+    """Return whether any value is a tuple of two different lanes."""
+    return is_lane_pair(value, lane_count) and value[0] != value[1]
